@@ -46,6 +46,34 @@ func TestP1EveryCallEndsWithoutPanicAtAllTexts(t *testing.T) {
 	}
 }
 
+func TestP1PatternsAndTablesEndWithoutPanicAtAllTexts(t *testing.T) {
+	x := porter.NewTable()
+	checkAdd(t, x, "GET", "/:p/*r", 0, api.OK)
+	texts := append(longTexts(), strings.Repeat("/", 1000000), strings.Repeat("/a", 1000000), strings.Repeat("/%2f", 1000000))
+	for _, s := range texts {
+		for _, pair := range [][2]string{{s, s}, {s, "/a"}, {"/:p", s}, {"/*r", s}, {strings.Repeat("/", 64), s}} {
+			if l, e := porter.Match(pair[0], pair[1]); e != api.OK && l != nil {
+				t.Errorf("P1: Match(%.20q, %.20q) = %.20q, %d", pair[0], pair[1], l, e)
+			}
+			if both, e := porter.Overlap(pair[0], pair[1]); e != api.OK && both {
+				t.Errorf("P1: Overlap(%.20q, %.20q) = %v, %d", pair[0], pair[1], both, e)
+			}
+			if n, e := x.Add(pair[0], pair[1]); n != 0 || e == api.OK {
+				t.Errorf("P1: Add(%.20q, %.20q) = %d, %d", pair[0], pair[1], n, e)
+			}
+		}
+		if n, l, e := x.Find("GET", s); n != 0 || e != api.OK && l != nil {
+			t.Errorf("P1: Find(GET, %.20q) = %d, %.20q, %d", s, n, l, e)
+		}
+		if n, l, e := x.Find(s, s); n != 0 || l != nil || e == api.OK {
+			t.Errorf("P1: Find(%.20q, the same) = %d, %.20q, %d", s, n, l, e)
+		}
+		if l := x.Methods(s); len(l) > 1 {
+			t.Errorf("P1: Methods(%.20q) = %.20q", s, l)
+		}
+	}
+}
+
 func TestP1EveryCallEndsWithoutPanicAtAllNumbersAndLists(t *testing.T) {
 	numbers := []int{math.MinInt, math.MinInt + 1, -1 << 32, -200, -1, 0, 1, 31, 32, 200, 500, 501, 1 << 32, math.MaxInt - 1, math.MaxInt}
 	for _, a := range numbers {

@@ -3,6 +3,7 @@ package porter
 
 import (
 	"porter/api"
+	"porter/routes"
 	"porter/wire"
 	"porter/words"
 )
@@ -31,27 +32,31 @@ func Print(q api.Request, how int, sizes []int) (string, api.Errno) {
 }
 
 // Match tells a pattern's parameters in a path (P9).
-func Match(pattern string, path string) ([]api.Param, api.Errno) { return nil, api.OK }
+func Match(pattern string, path string) ([]api.Param, api.Errno) { return routes.Match(pattern, path) }
 
 // Overlap tells whether two patterns have a path in common (P10).
-func Overlap(p string, q string) (bool, api.Errno) { return false, api.OK }
+func Overlap(p string, q string) (bool, api.Errno) { return routes.Overlap(p, q) }
 
 // Table is a table of patterns.
-type Table struct{}
+type Table struct {
+	inner routes.Table
+}
 
 // NewTable makes a table without patterns (P11).
-func NewTable() *Table { return nil }
+func NewTable() *Table { return &Table{} }
 
 // Add lays a pattern into the table (P11).
-func (t *Table) Add(method string, pattern string) (int, api.Errno) { return 0, api.OK }
+func (t *Table) Add(method string, pattern string) (int, api.Errno) {
+	return t.inner.Add(method, pattern)
+}
 
 // Find tells which pattern has a path (P12).
 func (t *Table) Find(method string, path string) (int, []api.Param, api.Errno) {
-	return 0, nil, api.OK
+	return t.inner.Find(method, path)
 }
 
 // Methods tells for which methods a path is had (P12).
-func (t *Table) Methods(path string) []string { return nil }
+func (t *Table) Methods(path string) []string { return t.inner.Methods(path) }
 
 // Check tells whether a configuration is right (P13).
 func Check(c api.Config) (int, api.Errno) { return 0, api.OK }

@@ -1,4 +1,5 @@
-// Package words knows the small forms of which requests are made: tokens, numbers, targets, fields.
+// Package words knows the small forms of which requests and patterns are made: tokens, numbers,
+// targets, paths, names, fields.
 package words
 
 import (
@@ -8,8 +9,9 @@ import (
 )
 
 const (
-	marks  = "!#$%&'*+-.^_|~`" // what a token may have beside letters and digits
-	blanks = " \t"
+	marks      = "!#$%&'*+-.^_|~`" // what a token may have beside letters and digits
+	fixedMarks = "-._~"            // what a fixed piece of a pattern may
+	blanks     = " \t"
 )
 
 func isDigit(c byte) bool { return c >= '0' && c <= '9' }
@@ -21,6 +23,12 @@ func isTokenByte(c byte) bool {
 }
 
 func isTargetByte(c byte) bool { return c >= 33 && c <= 126 && c != '#' }
+
+func isFixedByte(c byte) bool {
+	return isLetter(c) || isDigit(c) || strings.IndexByte(fixedMarks, c) >= 0
+}
+
+func isNameByte(c byte) bool { return c >= 'a' && c <= 'z' || isDigit(c) }
 
 func isValueByte(c byte) bool { return c == '\t' || c >= 32 && c != 127 }
 
@@ -41,13 +49,21 @@ func IsMethod(s string) bool { return len(s) <= api.MaxMethod && IsToken(s) }
 
 // IsTarget tells whether a text is a target.
 func IsTarget(s string) bool {
-	if !strings.HasPrefix(s, "/") || !all(s, isTargetByte) {
-		return false
-	}
 	path, _, _ := strings.Cut(s, "?")
-	_, errno := Unescape(path)
-	return errno == api.OK
+	return IsPath(path) && all(s, isTargetByte)
 }
+
+// IsPath tells whether a text is a path.
+func IsPath(s string) bool {
+	_, errno := Unescape(s)
+	return errno == api.OK && strings.HasPrefix(s, "/")
+}
+
+// IsFixed tells whether a text may be a fixed piece of a pattern; the empty one may.
+func IsFixed(s string) bool { return all(s, isFixedByte) }
+
+// IsName tells whether a text may be the name of a parameter or a rest.
+func IsName(s string) bool { return s != "" && all(s, isNameByte) }
 
 // IsVersion tells whether a text has the form of a version, be it ours or not.
 func IsVersion(s string) bool {
