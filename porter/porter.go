@@ -4,6 +4,7 @@ package porter
 import (
 	"porter/api"
 	"porter/routes"
+	"porter/site"
 	"porter/wire"
 	"porter/words"
 )
@@ -59,18 +60,31 @@ func (t *Table) Find(method string, path string) (int, []api.Param, api.Errno) {
 func (t *Table) Methods(path string) []string { return t.inner.Methods(path) }
 
 // Check tells whether a configuration is right (P13).
-func Check(c api.Config) (int, api.Errno) { return 0, api.OK }
+func Check(c api.Config) (int, api.Errno) {
+	_, number, errno := site.New(c)
+	return number, errno
+}
 
 // Dispatch tells where a request leads (P14).
 func Dispatch(c api.Config, method string, target string) (api.Found, api.Errno) {
-	return api.Found{}, api.OK
+	s, _, errno := site.New(c)
+	if errno != api.OK {
+		return api.Found{}, errno
+	}
+	return s.Dispatch(method, target)
 }
 
 // Reply tells the answer to a request (P15 to P17).
-func Reply(c api.Config, q api.Request) (api.Answer, api.Errno) { return api.Answer{}, api.OK }
+func Reply(c api.Config, q api.Request) (api.Answer, api.Errno) {
+	s, _, errno := site.New(c)
+	if errno != api.OK {
+		return api.Answer{}, errno
+	}
+	return s.Reply(q)
+}
 
 // Render tells an answer as bytes (P18).
-func Render(method string, a api.Answer) string { return "" }
+func Render(method string, a api.Answer) string { return wire.Render(method, a) }
 
 // Server answers requests by one configuration.
 type Server struct{}

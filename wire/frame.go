@@ -1,4 +1,4 @@
-// Package wire turns bytes into requests and requests into bytes.
+// Package wire turns bytes into requests, and requests and answers into bytes.
 package wire
 
 import (
@@ -10,6 +10,9 @@ import (
 
 // maxSizeLine is the longest size line: the digits, CR and LF.
 const maxSizeLine = api.MaxHex + 2
+
+// version is the one that is spoken here.
+const version = "HTTP/1.1"
 
 // reader walks along some bytes, of which the first at are read.
 type reader struct {
@@ -95,7 +98,7 @@ lines:
 		if !right {
 			return api.Request{}, api.ErrBad
 		}
-		q.Fields = append(q.Fields, own(field))
+		q.Fields = append(q.Fields, words.CloneField(field)) // a request must not hold on to all the bytes that it came in
 	}
 	return q, api.OK
 }
@@ -107,15 +110,10 @@ func firstLine(line string) (string, string, api.Errno) {
 		return "", "", api.ErrBad
 	case !words.IsMethod(parts[0]) || !words.IsTarget(parts[1]) || !words.IsVersion(parts[2]):
 		return "", "", api.ErrBad
-	case parts[2] != "HTTP/1.1":
+	case parts[2] != version:
 		return "", "", api.ErrVersion
 	}
 	return strings.Clone(parts[0]), strings.Clone(parts[1]), api.OK
-}
-
-// own copies a field's texts: a request must not hold on to all the bytes that it came in.
-func own(f api.Field) api.Field {
-	return api.Field{Name: strings.Clone(f.Name), Value: strings.Clone(f.Value)}
 }
 
 // bytes reads the next n bytes.

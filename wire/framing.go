@@ -5,12 +5,7 @@ import (
 	"porter/words"
 )
 
-const (
-	hostName      = "Host"
-	lengthName    = "Content-Length"
-	codingName    = "Transfer-Encoding"
-	chunkedCoding = "chunked"
-)
+const chunkedCoding = "chunked"
 
 // framing says how a request's body is told: in chunks, or as so many bytes.
 type framing struct {
@@ -20,10 +15,10 @@ type framing struct {
 
 // framingOf tells by a head's fields how the body is told, if they may stand together.
 func framingOf(fields []api.Field, most int) (framing, api.Errno) {
-	lengths := words.Values(fields, lengthName)
-	codings := words.Values(fields, codingName)
+	lengths := words.Values(fields, words.LengthName)
+	codings := words.Values(fields, words.CodingName)
 	switch {
-	case len(words.Values(fields, hostName)) != 1:
+	case len(words.Values(fields, words.HostName)) != 1:
 		return framing{}, api.ErrBad
 	case len(codings) > 0 && len(lengths) > 0:
 		return framing{}, api.ErrBad

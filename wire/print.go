@@ -20,16 +20,16 @@ func Print(q api.Request, how int, sizes []int) (string, api.Errno) {
 		return "", api.ErrArg
 	}
 	var out strings.Builder
-	out.WriteString(q.Method + " " + q.Target + " HTTP/1.1\r\n")
+	out.WriteString(q.Method + " " + q.Target + " " + version + "\r\n")
 	for _, f := range q.Fields {
 		writeField(&out, f.Name, f.Value)
 	}
 	if how == byLength {
-		writeField(&out, lengthName, strconv.Itoa(len(q.Body)))
+		writeField(&out, words.LengthName, strconv.Itoa(len(q.Body)))
 		out.WriteString("\r\n" + q.Body)
 		return out.String(), api.OK
 	}
-	writeField(&out, codingName, chunkedCoding)
+	writeField(&out, words.CodingName, chunkedCoding)
 	out.WriteString("\r\n")
 	writeChunks(&out, q.Body, sizes)
 	return out.String(), api.OK
@@ -43,9 +43,9 @@ func printable(q api.Request) bool {
 	hosts := 0
 	for _, f := range q.Fields {
 		switch {
-		case !words.IsField(f) || words.Alike(f.Name, lengthName) || words.Alike(f.Name, codingName):
+		case !words.IsField(f) || words.Alike(f.Name, words.LengthName) || words.Alike(f.Name, words.CodingName):
 			return false
-		case words.Alike(f.Name, hostName):
+		case words.Alike(f.Name, words.HostName):
 			hosts++
 		}
 	}

@@ -49,8 +49,14 @@ func IsMethod(s string) bool { return len(s) <= api.MaxMethod && IsToken(s) }
 
 // IsTarget tells whether a text is a target.
 func IsTarget(s string) bool {
-	path, _, _ := strings.Cut(s, "?")
+	path, _ := SplitTarget(s)
 	return IsPath(path) && all(s, isTargetByte)
+}
+
+// SplitTarget tells a target's path, and what stands behind it, from the `?` on.
+func SplitTarget(s string) (string, string) {
+	path, _, _ := strings.Cut(s, "?")
+	return path, s[len(path):]
 }
 
 // IsPath tells whether a text is a path.
@@ -84,6 +90,11 @@ func ReadField(line string) (api.Field, bool) {
 		return api.Field{}, false
 	}
 	return f, true
+}
+
+// CloneField tells a field with texts in memory of their own.
+func CloneField(f api.Field) api.Field {
+	return api.Field{Name: strings.Clone(f.Name), Value: strings.Clone(f.Value)}
 }
 
 // Alike tells whether two texts are the same but for the case of the letters A to Z.
