@@ -4,6 +4,7 @@ package porter
 import (
 	"porter/api"
 	"porter/routes"
+	"porter/server"
 	"porter/site"
 	"porter/wire"
 	"porter/words"
@@ -87,31 +88,41 @@ func Reply(c api.Config, q api.Request) (api.Answer, api.Errno) {
 func Render(method string, a api.Answer) string { return wire.Render(method, a) }
 
 // Server answers requests by one configuration.
-type Server struct{}
+type Server struct {
+	inner *server.Server
+}
 
 // NewServer makes a server (P19).
-func NewServer(c api.Config) (*Server, api.Errno) { return nil, api.OK }
+func NewServer(c api.Config) (*Server, api.Errno) {
+	inner, errno := server.New(c)
+	if errno != api.OK {
+		return nil, errno
+	}
+	return &Server{inner}, api.OK
+}
 
 // Hits tells how often each route was found (P19).
-func (s *Server) Hits() []int { return nil }
+func (s *Server) Hits() []int { return s.inner.Hits() }
 
 // Conn is a connection to a server.
-type Conn struct{}
+type Conn struct {
+	inner *server.Conn
+}
 
 // Open opens a connection (P19).
-func (s *Server) Open() *Conn { return nil }
+func (s *Server) Open() *Conn { return &Conn{s.inner.Open()} }
 
 // Give gives the connection bytes that came in (P20).
-func (c *Conn) Give(s string) api.Errno { return api.OK }
+func (c *Conn) Give(s string) api.Errno { return c.inner.Give(s) }
 
 // End says that nothing more comes in (P21).
-func (c *Conn) End() api.Errno { return api.OK }
+func (c *Conn) End() api.Errno { return c.inner.End() }
 
 // Take takes bytes that are to go out (P21).
-func (c *Conn) Take(n int) (string, api.Errno) { return "", api.OK }
+func (c *Conn) Take(n int) (string, api.Errno) { return c.inner.Take(n) }
 
 // Fail says that nothing more can go out (P21).
-func (c *Conn) Fail() {}
+func (c *Conn) Fail() { c.inner.Fail() }
 
 // Status tells how the connection is (P21).
-func (c *Conn) Status() api.Status { return api.Status{} }
+func (c *Conn) Status() api.Status { return c.inner.Status() }

@@ -2,7 +2,7 @@
 package site
 
 import (
-	"slices"
+	"strings"
 
 	"porter/api"
 	"porter/routes"
@@ -41,8 +41,8 @@ func New(c api.Config) (*Site, int, api.Errno) {
 		if !rightWare(w) {
 			return nil, number, api.ErrWare
 		}
+		s.wares = append(s.wares, cloneWare(w))
 	}
-	s.wares = slices.Clone(c.Wares)
 	return s, 0, api.OK
 }
 
@@ -53,8 +53,19 @@ func (s *Site) add(r api.Route) api.Errno {
 	if !rightHandler(r.Handler) {
 		return api.ErrHandler
 	}
-	s.handlers = append(s.handlers, r.Handler)
+	s.handlers = append(s.handlers, cloneHandler(r.Handler))
 	return api.OK
+}
+
+// cloneHandler and cloneWare give texts memory of their own: a site may stand longer than what it was read from.
+func cloneHandler(h api.Handler) api.Handler {
+	h.Text, h.Name = strings.Clone(h.Text), strings.Clone(h.Name)
+	return h
+}
+
+func cloneWare(w api.Ware) api.Ware {
+	w.Name, w.Value = strings.Clone(w.Name), strings.Clone(w.Value)
+	return w
 }
 
 func rightHandler(h api.Handler) bool {
